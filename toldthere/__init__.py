@@ -1,0 +1,1 @@
+"""Toldthere: statements that are run again at a copy, decided for all tables."""
