@@ -1,4 +1,4 @@
-"""Objects that the tests pass where a point says: any object."""
+"""Objects that the tests pass where a point says: any object; and what several tests check."""
 
 from toldthere.columns import Columns
 from toldthere.errors import BadColumns, NoColumn, UnlikeColumns
@@ -40,3 +40,12 @@ def same_thing(one, other):
     if isinstance(one, dict) and isinstance(other, dict):
         return list(one) == list(other) and all(same_thing(one[key], other[key]) for key in one)
     return type(one) is type(other) and one == other
+
+
+def check_equal(test, one, other, equal):
+    """Checks == and != of two things from both sides."""
+    with test.subTest(one=one, other=other):
+        test.assertIs(one == other, equal)
+        test.assertIs(other == one, equal)
+        test.assertIs(one != other, not equal)
+        test.assertIs(other != one, not equal)

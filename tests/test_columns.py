@@ -2,7 +2,7 @@
 
 import unittest
 
-from tests.samples import NO_WORDS, any_objects, same_thing, table
+from tests.samples import NO_WORDS, any_objects, check_equal, same_thing, table
 from toldthere.columns import Columns
 from toldthere.errors import BadColumns, NoColumn, ToldError
 
@@ -287,23 +287,16 @@ class RowTest(unittest.TestCase):
 
 
 class EqualTest(unittest.TestCase):
-    def check(self, one, other, equal):
-        with self.subTest(one=one, other=other):
-            self.assertIs(one == other, equal)
-            self.assertIs(other == one, equal)
-            self.assertIs(one != other, not equal)
-            self.assertIs(other != one, not equal)
-
     def test_same_names_and_values(self):
         columns = Columns([STATE, KIND], ["owner"])
-        self.check(columns, columns, True)
-        self.check(columns, Columns((["state", ("new", "old")], ("kind", ["x", "y", "z"])), ("owner",)), True)
-        self.check(Columns([], ["a", "b"]), Columns((), ("a", "b")), True)
+        check_equal(self, columns, columns, True)
+        check_equal(self, columns, Columns((["state", ("new", "old")], ("kind", ["x", "y", "z"])), ("owner",)), True)
+        check_equal(self, Columns([], ["a", "b"]), Columns((), ("a", "b")), True)
 
     def test_another_order(self):
-        self.check(Columns([STATE, KIND]), Columns([KIND, STATE]), False)
-        self.check(Columns([], ["a", "b"]), Columns([], ["b", "a"]), False)
-        self.check(Columns([("a", ["x", "y"])]), Columns([("a", ["y", "x"])]), False)
+        check_equal(self, Columns([STATE, KIND]), Columns([KIND, STATE]), False)
+        check_equal(self, Columns([], ["a", "b"]), Columns([], ["b", "a"]), False)
+        check_equal(self, Columns([("a", ["x", "y"])]), Columns([("a", ["y", "x"])]), False)
 
     def test_other_names_or_values(self):
         one = Columns([STATE, KIND])
@@ -312,13 +305,13 @@ class EqualTest(unittest.TestCase):
                       Columns([("state", ["new"]), KIND]), Columns([("state", ["new", "old", "lost"]), KIND]),
                       Columns([("state", ["new", "lost"]), KIND]), Columns([("stat", ["new", "old"]), KIND]),
                       Columns([("state", ["x", "y", "z"]), ("kind", ["new", "old"])])):
-            self.check(one, other, False)
+            check_equal(self, one, other, False)
 
     def test_free_and_told_are_unlike(self):
-        self.check(Columns([], ["a"]), Columns([("a", ["a"])]), False)
+        check_equal(self, Columns([], ["a"]), Columns([("a", ["a"])]), False)
 
     def test_other_objects(self):
         one = Columns([STATE, KIND])
         for other in any_objects() + [["state", "kind"], [STATE, KIND], ("state", "kind"),
                                       {"state": ("new", "old"), "kind": ("x", "y", "z")}, table()]:
-            self.check(one, other, False)
+            check_equal(self, one, other, False)

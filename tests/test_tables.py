@@ -2,7 +2,7 @@
 
 import unittest
 
-from tests.samples import LONG, LONGER, NO_WORDS, any_objects, columns, same_thing
+from tests.samples import LONG, LONGER, NO_WORDS, any_objects, check_equal, columns, same_thing
 from toldthere.columns import Columns
 from toldthere.errors import BadFollowing, BadNumber, BadRow, NoRow
 from toldthere.tables import Table
@@ -102,7 +102,8 @@ class WrongTest(unittest.TestCase):
         self.wrong(BadNumber, "number", -2, {-1: ANNA, 1: BERT, -2: ANNA})
 
     def test_no_rows(self):
-        for thing in any_objects() + [ANNA[:2], ANNA + ("a",), ("lost", "x", "anna"), "new", {"new": 1, "x": 2, "a": 3}]:
+        for thing in any_objects() + [ANNA[:2], ANNA + ("a",), ("lost", "x", "anna"), "new",
+                                      {"new": 1, "x": 2, "a": 3}]:
             self.wrong(BadRow, "number", 4, {4: thing})
         for thing in NO_WORDS:
             self.wrong(BadRow, "number", LONG, {1: ANNA, LONG: ["new", "x", thing], 2: BERT})
@@ -204,37 +205,30 @@ class AnswersTest(unittest.TestCase):
 
 
 class EqualTest(unittest.TestCase):
-    def check(self, one, other, equal):
-        with self.subTest(one=one, other=other):
-            self.assertIs(one == other, equal)
-            self.assertIs(other == one, equal)
-            self.assertIs(one != other, not equal)
-            self.assertIs(other != one, not equal)
-
     def test_same(self):
         one = Table(columns(), {2: ANNA, 7: BERT})
-        self.check(one, one, True)
-        self.check(one, Table(columns(), {7: list(BERT), 2: ANNA}, following=8), True)
-        self.check(Table(columns(), {}), Table(columns(), {}, following=1), True)
+        check_equal(self, one, one, True)
+        check_equal(self, one, Table(columns(), {7: list(BERT), 2: ANNA}, following=8), True)
+        check_equal(self, Table(columns(), {}), Table(columns(), {}, following=1), True)
 
     def test_other_columns(self):
         few, more = Columns([("state", ["new"])]), Columns([("state", ["new", "old"])])
-        self.check(Table(few, {1: ["new"]}), Table(more, {1: ["new"]}), False)
-        self.check(Table(few, {}), Table(more, {}), False)
-        self.check(Table(few, {1: ["new"]}), Table(Columns([], ["state"]), {1: ["new"]}), False)
+        check_equal(self, Table(few, {1: ["new"]}), Table(more, {1: ["new"]}), False)
+        check_equal(self, Table(few, {}), Table(more, {}), False)
+        check_equal(self, Table(few, {1: ["new"]}), Table(Columns([], ["state"]), {1: ["new"]}), False)
 
     def test_other_rows_or_numbers(self):
         one = Table(columns(), {2: ANNA, 7: BERT}, following=9)
         for rows in ({}, {2: ANNA}, {7: BERT}, {2: BERT, 7: ANNA}, {2: ANNA, 7: ANNA}, {2: ANNA, 8: BERT},
                      {1: ANNA, 7: BERT}, {2: ANNA, 7: BERT, 8: CARL}, {2: ANNA, 7: ("old", "y", "berta")}):
-            self.check(one, Table(columns(), rows, following=9), False)
+            check_equal(self, one, Table(columns(), rows, following=9), False)
 
     def test_other_following(self):
-        self.check(Table(columns(), {2: ANNA}), Table(columns(), {2: ANNA}, following=4), False)
-        self.check(Table(columns(), {}), Table(columns(), {}, following=2), False)
-        self.check(Table(columns(), {}, following=LONGER), Table(columns(), {}, following=LONGER + 1), False)
+        check_equal(self, Table(columns(), {2: ANNA}), Table(columns(), {2: ANNA}, following=4), False)
+        check_equal(self, Table(columns(), {}), Table(columns(), {}, following=2), False)
+        check_equal(self, Table(columns(), {}, following=LONGER), Table(columns(), {}, following=LONGER + 1), False)
 
     def test_other_objects(self):
         one = Table(columns(), {5: ANNA, 7: BERT})
         for other in any_objects() + [{5: ANNA, 7: BERT}, [5, 7], [ANNA, BERT], columns()]:
-            self.check(one, other, False)
+            check_equal(self, one, other, False)
