@@ -2,6 +2,9 @@
 
 from toldthere.columns import Columns
 from toldthere.errors import BadColumns, NoColumn, UnlikeColumns
+from toldthere.looks import every, has
+from toldthere.scripts import Script
+from toldthere.statements import Change, Drop, Put, Trigger
 from toldthere.tables import Table
 
 LONG = 10 ** 40 + 7
@@ -27,8 +30,10 @@ def plain_objects():
 
 def any_objects():
     """Objects of each kind that [3] lists, also one inside another."""
-    own = [columns(), table(), Table(columns(), {}), BadColumns(1), NoColumn(["a"]), UnlikeColumns()]
-    return plain_objects() + own + [[columns()], (table(), 1), {"a": columns()}]
+    put, look = Put(columns(), ("new", "x", "anna")), has(columns(), "owner", ["bert"])
+    own = [columns(), table(), Table(columns(), {}), BadColumns(1), NoColumn(["a"]), UnlikeColumns(), look,
+           every(Columns([], ["a"])), put, Drop(look), Change(look, {}), Trigger(look, {}), Script(columns(), [put])]
+    return plain_objects() + own + [[columns()], (table(), 1), {"a": columns()}, [look], (put,)]
 
 
 def same_thing(one, other):

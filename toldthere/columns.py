@@ -26,7 +26,7 @@ def _is_told(thing):
     return is_list(thing) and len(thing) == 2 and _is_name(thing[0]) and _are_values(thing[1])
 
 
-def _can_stand(thing, values):
+def can_stand(thing, values):
     """Whether an object is a word for a column with these values (None: a free one)."""
     return is_word(thing) and (values is None or thing in values)
 
@@ -64,7 +64,7 @@ class Columns:
         """Whether an object is a row of these columns, or a list of its words."""
         if not is_list(thing) or len(thing) != len(self._values):
             return False
-        return all([_can_stand(word, values) for values, word in zip(self._values.values(), thing)])
+        return all([can_stand(word, values) for values, word in zip(self._values.values(), thing)])
 
     def __len__(self):
         return len(self._values)
