@@ -390,7 +390,7 @@ class ComparedTest(LookCase):
                     known.append((~one[0], set(everything) - one[1]))
                 else:
                     known.append((sign(one[0], other[0]), sign(one[1], other[1])))
-                if len(vars(known[-1][0])["_steps"]) > 100:
+                if len(vars(known[-1][0])["steps"]) > 100:
                     known.pop()
             for look, found in known:
                 self.assertEqual({point for point in everything if look(*point)}, found)

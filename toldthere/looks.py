@@ -49,7 +49,7 @@ class Look:
         self.columns = columns
         # Each "and", "or" and "not" stands behind the steps that it joins: so looks may be nested as deep
         # as you like, and a look can be written as it was made.
-        self._steps = steps
+        self.steps = steps
 
     def __call__(self, row, number):
         return self.found([(thing,) for thing in (*row, number)]) == 1
@@ -62,7 +62,7 @@ class Look:
         """
         all_points = (1 << _count(axes)) - 1
         stack = []
-        for step in self._steps:
+        for step in self.steps:
             kind = step[0]
             if kind == "in":
                 stack.append(_found_in(axes, step[1], step[2]))
@@ -92,7 +92,7 @@ class Look:
         return (self | other) & ~(self & other)
 
     def __invert__(self):
-        return Look(self.columns, (*self._steps, ("not",)))
+        return Look(self.columns, (*self.steps, ("not",)))
 
     def __eq__(self, other):
         return isinstance(other, Look) and self.columns == other.columns and _find_alike(self, other)
@@ -132,7 +132,7 @@ def _joined(one, other, sign):
     """The look of two looks and of a sign between them."""
     if one.columns != other.columns:
         raise UnlikeColumns()
-    return Look(one.columns, (*one._steps, *other._steps, (sign,)))
+    return Look(one.columns, (*one.steps, *other.steps, (sign,)))
 
 
 def _find_alike(one, other):
@@ -145,7 +145,7 @@ def _found_by_both(one, other):
     """What two looks find of the same points, which stand for all rows with all numbers."""
     if one.columns != other.columns:
         raise UnlikeColumns()
-    axes = _axes(one.columns, (*one._steps, *other._steps))
+    axes = _axes(one.columns, (*one.steps, *other.steps))
     return one.found(axes), other.found(axes)
 
 
