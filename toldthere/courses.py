@@ -73,12 +73,12 @@ class Event:
 class Course:
     """The events of home and copy, in an order in which they can come."""
 
-    def __init__(self, kit, statements, order, told, *, variants=None, waits=None, level=None):
+    def __init__(self, kit, statements, order, told, *, variants=None, waits=None, weaving=None):
         self.kit = kit
         self.statements = statements
         self.order = order
         self.told = told
-        self.level = level
+        self.weaving = weaving
         # Whether the copy is told each statement once and in the order of home.
         self.plain = order == told and waits is None
         self.events = _events(kit, statements, order, told, variants or {})
@@ -86,6 +86,11 @@ class Course:
         offsets = [event.offset for event in self.events if event.offset is not None]
         self.puts = max([int(offset) for offset in offsets], default=-1) + 1
         _mark_keeping(self.events, waits or {})
+        self._home = {event.index: event.step for event in self.events if event.at_home}
+
+    def step_at_home(self, index):
+        """The step by which home runs the statement with an index."""
+        return self._home[index]
 
 
 def _home_signs(index):

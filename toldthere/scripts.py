@@ -12,11 +12,11 @@ class Script:
         if not is_list(statements):
             raise BadScript(0)
         for index, thing in enumerate(statements):
-            if not _is_statement(columns, thing):
+            if not is_statement(columns, thing):
                 raise BadScript(index)
-        if not _are_triggers(columns, here):
+        if not are_triggers(columns, here):
             raise BadTrigger("here")
-        if not _are_triggers(columns, there):
+        if not are_triggers(columns, there):
             raise BadTrigger("there")
         self.columns = columns
         self.here = tuple(here)
@@ -66,11 +66,11 @@ class Script:
             raise NoStatement(index)
 
 
-def _is_statement(columns, thing):
+def is_statement(columns, thing):
     """Whether an object is a statement of these columns."""
     return isinstance(thing, (Put, Drop, Change)) and thing.columns == columns
 
 
-def _are_triggers(columns, things):
+def are_triggers(columns, things):
     """Whether an object is a list of triggers of these columns."""
     return is_list(things) and all([isinstance(thing, Trigger) and thing.columns == columns for thing in things])
