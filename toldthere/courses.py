@@ -28,14 +28,14 @@ class Kit:
         kit.greatest = self.greatest
         return kit
 
-    def home(self, index, statement, variant=0):
+    def home_step(self, index, statement, variant=0):
         """The step by which home runs a statement; a variant is a statement that stands for another one."""
         key = ("home", index, 0, variant, "")
         if key not in self._steps:
             self._steps[key] = Step(self.shapes, statement, self.here, _home_signs(index))
         return self._steps[key]
 
-    def copy(self, index, statement, time, variant=0):
+    def copy_step(self, index, statement, time, variant=0):
         """The step by which the copy runs a statement that it is told for the first (0) or second time."""
         key = ("copy", index, time, variant, statement.how)
         if key not in self._steps:
@@ -75,9 +75,6 @@ class Course:
 
     def __init__(self, kit, statements, order, told, *, variants=None, waits=None, weaving=None):
         self.kit = kit
-        self.statements = statements
-        self.order = order
-        self.told = told
         self.weaving = weaving
         # Whether the copy is told each statement once and in the order of home.
         self.plain = order == told and waits is None
@@ -117,10 +114,10 @@ def _events(kit, statements, order, told, variants):
     following = 0
     for place, index in enumerate(order):
         variant = variants.get(index, 0)
-        events.append(Event(kit.home(index, statements[index], variant), statements[index], index, True))
+        events.append(Event(kit.home_step(index, statements[index], variant), statements[index], index, True))
         while following < len(told) and told[following] in order[:place + 1]:
             next_index = told[following]
-            step = kit.copy(next_index, statements[next_index], times[next_index], variants.get(next_index, 0))
+            step = kit.copy_step(next_index, statements[next_index], times[next_index], variants.get(next_index, 0))
             events.append(Event(step, statements[next_index], next_index, False))
             times[next_index] += 1
             following += 1

@@ -18,7 +18,7 @@ def endings(plan, table):
     states = {tuple(state): True}
     following = table.following
     for index, statement in enumerate(plan.statements()):
-        step = kit.home(index, statement)
+        step = kit.home_step(index, statement)
         states = {left: True for state in states for left in _states_behind(step, state, following)}
         following += 1 if step.puts else 0
     words = {sign: word for word, sign in signs.items()}

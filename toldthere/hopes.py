@@ -6,7 +6,10 @@ from toldthere.zones import MIDDLE, PLACE, fate_behind, told_as_rows
 
 # What is sought: a table by which home and copy part; one at which the copy halts at a statement; one with so
 # many unlike numbers at the end; one of whose rows any number can be unlike at the end.
-PART, HALT, WIDE, ENDLESS = "part", "halt", "wide", "endless"
+PART = "part"
+HALT = "halt"
+WIDE = "wide"
+ENDLESS = "endless"
 
 
 class Goal:
@@ -82,7 +85,7 @@ class Hopes:
                 places = (0,)
             else:
                 # A row of which there can be any number is never one of the first ones.
-                places = (KEPT,) if self.goal.kind == ENDLESS else (KEPT, *range(step.most))
+                places = [KEPT] if self.goal.kind == ENDLESS else [KEPT] + list(range(step.most))
             for place in places:
                 listed.append(fate_behind(event, zone, fate, place, asked or rank >= 0 and runs))
         return listed

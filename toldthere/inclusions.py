@@ -37,7 +37,7 @@ class Side:
         self.others = others
         self.is_first = is_first
         # For each machine of the one script the list of those of the other one that do the same.
-        self.likes = [[] if others is None else others.likes(own, machine) for machine in range(len(own.nodes))]
+        self.alike = [[] if others is None else others.likes(own, machine) for machine in range(len(own.nodes))]
         # Lists of configurations that have been met, by all that a state has beside them.
         self.met = {}
 
@@ -90,7 +90,7 @@ class Inclusion:
     def _add(self, rows, state):
         side = state.side
         # What does the same as the one script can go on with it.
-        if side.others is not None and side.others.has_any(state.others, side.likes[state.machine], state.true):
+        if side.others is not None and side.others.has_any(state.others, side.alike[state.machine], state.true):
             return
         if state.zone == len(side.zones):
             if state.true != side.own.nodes[state.machine].needs:

@@ -9,12 +9,12 @@ class Mark:
     finds is a function that tells of a row whether a look that the statement uses finds it at this number.
     """
 
-    def __init__(self, took, was_found, before, left, finds):
+    def __init__(self, took, was_found, before, after, finds):
         self.took = took
         self.was_found = was_found
         # The row ahead of the statement, and as the statement has left it.
         self.before = before
-        self.left = left
+        self.after = after
         self.finds = finds
 
 
@@ -29,6 +29,6 @@ def has_to_wait(level, mine, other):
     if level == "found":
         return False
     i_find, other_finds = mine.finds, other.finds
-    if other.took and (i_find(other.before) or i_find(other.left)):
+    if other.took and (i_find(other.before) or i_find(other.after)):
         return True
-    return mine.took and (other_finds(mine.before) or other_finds(mine.left))
+    return mine.took and (other_finds(mine.before) or other_finds(mine.after))

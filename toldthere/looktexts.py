@@ -1,7 +1,6 @@
 """The texts of looks."""
 
 from toldthere.errors import ToldError
-from toldthere.kinds import is_word
 from toldthere.looks import every, has, numbered, same
 
 

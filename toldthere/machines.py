@@ -18,7 +18,7 @@ class Machines:
         self._known = []
         self._numbers = {}
         self._ending = 0
-        self._behind = {}
+        self._all_behind = {}
 
     def beginning(self):
         """The configurations ahead of all rows."""
@@ -35,14 +35,14 @@ class Machines:
     def all_behind(self, configurations, zone, letter):
         """The configurations behind a row with a letter."""
         key = (configurations, zone, letter)
-        if key not in self._behind:
+        if key not in self._all_behind:
             behind = []
             for machine, true in self._members(configurations):
                 triples = self._letters[machine][zone].get(letter, ())
                 for digits in self._true_behind(machine, true, triples):
                     behind.append((machine, digits))
-            self._behind[key] = self._set(behind)
-        return self._behind[key]
+            self._all_behind[key] = self._set(behind)
+        return self._all_behind[key]
 
     def can_end(self, configurations):
         """Whether all has come true by one of the configurations."""

@@ -6,7 +6,7 @@ from toldthere.proofs import Proofs
 from toldthere.runs import has_source
 from toldthere.searches import Search
 from toldthere.shapes import ABSENT
-from toldthere.zones import MIDDLE, PLACE, SLOT, Zone
+from toldthere.zones import MIDDLE, PLACE, SLOT, Zone, fates_of
 
 
 def mends(plan):
@@ -41,7 +41,7 @@ class Mender:
             else:
                 statements[index] = statements[index].told(word)
         proofs = Proofs(self._kit, statements, variants, self._known)
-        course = proofs.course(0, len(statements))
+        course = proofs.stretch(0, len(statements))
         for place, found in enumerate(self._tables):
             if _parts_by(course, found):
                 # The tables that tell most lie ahead.
@@ -83,16 +83,16 @@ def _may_stand(chosen, pair):
 def _parts_by(course, found):
     """Whether home and copy can part from the very table by which another script was found to part."""
     zones, fates = [], []
-    for zone, _, origin in found.rows:
+    for zone, _, origin in found.path:
         if zone.role == PLACE:
             continue
         role = SLOT if zone.role == MIDDLE else zone.role
         zones.append(Zone(role, zone.number))
-        fates.append({(origin, origin, (), 0, 0, 0): origin})
+        fates.append(fates_of([origin]))
     for zone in found.node.zones:
         if zone.role == PLACE:
             zones.append(zone)
-            fates.append({(ABSENT, ABSENT, (), 0, 0, 0): ABSENT})
+            fates.append(fates_of([ABSENT]))
     search = Search(Goal(PART))
     search.add(course, zones, fates)
     return search.result() is not None

@@ -67,7 +67,7 @@ def parting_of(found):
     if found is None:
         return None
     start, home, copy, halted = told_course(found)
-    return Parting(start, home.table(), copy.table(), halted, home.entries, copy.entries)
+    return Parting(start, home.present(), copy.present(), halted, home.written, copy.written)
 
 
 def _check_index(plan, index):

@@ -13,26 +13,26 @@ class Proofs:
 
     def __init__(self, kit, statements, variants=None, known=None):
         self.kit = kit
-        self.statements = statements
+        self._statements = statements
         self.variants = {} if variants is None else variants
         self._known = {} if known is None else known
 
-    def course(self, first, behind):
+    def stretch(self, first, behind):
         """The course of the statements from an index to ahead of another one."""
         order = list(range(first, behind))
-        return Course(self.kit, self.statements, order, order, variants=self.variants)
+        return Course(self.kit, self._statements, order, order, variants=self.variants)
 
     def find(self, first, behind, goal):
         """What is found by a search in a part of the script."""
         search = Search(goal, lambda place: self.is_steady(first + place, behind))
-        search.add_all(self.course(first, behind))
+        search.add_all(self.stretch(first, behind))
         return search.result()
 
     def is_steady(self, first, behind):
         """Whether a part of the script never parts home and copy."""
         if first == behind:
             return True
-        key = (first, *[(self.variants.get(index, 0), self.statements[index].how) for index in range(first, behind)])
+        key = (first, *[(self.variants.get(index, 0), self._statements[index].how) for index in range(first, behind)])
         if key not in self._known:
             self._known[key] = self.find(first, behind, Goal(PART)) is None
         return self._known[key]

@@ -8,11 +8,14 @@ from toldthere.zones import first_fates, layouts
 
 
 class Found:
-    """A way to come to the goal: a node at the end, and pairs of a zone and of a fate for each row in order."""
+    """A way to come to the goal: a node at the end, and for each row, by ascending numbers, where it lies.
 
-    def __init__(self, node, rows):
+    This is a triple of its zone, of its fate, and of its shape at the beginning.
+    """
+
+    def __init__(self, node, path):
         self.node = node
-        self.rows = rows
+        self.path = path
 
 
 class Search:

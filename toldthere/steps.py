@@ -1,13 +1,14 @@
 """Steps: one statement as home or the copy runs it, on shapes of rows."""
 
-from toldthere.looks import GREATEST_NUMBER, NUMBERS
+from toldthere.looks import NUMBERS
 from toldthere.runs import change_at, changes_of, has_source
 from toldthere.shapes import ABSENT
 
 # To a look, all numbers beyond those that looks can name are one.
-BEYOND = GREATEST_NUMBER + 1
+BEYOND = 5
 # What a change takes from elsewhere than the row and the statement.
-MOMENT, THROW = -1, -2
+MOMENT = -1
+THROW = -2
 
 
 def clamped(number):
@@ -18,11 +19,11 @@ def clamped(number):
 class Signs:
     """The signs of the new words of a statement at one store."""
 
-    def __init__(self, moment, throw, told=None):
+    def __init__(self, moment, throw, throw_of_home=None):
         self.moment = moment
         self.throw = throw
         # The throw of home, for a row that got one there, if the statement is told with its values.
-        self.told = throw if told is None else told
+        self.throw_of_home = throw if throw_of_home is None else throw_of_home
 
 
 class Step:
@@ -39,8 +40,8 @@ class Step:
         self.wants = None if statement.when is None else statement.when[0] == "some"
         self._guard = None if statement.when is None else shapes.findings(statement.when[1])
         self._look = None if self.puts else shapes.findings(statement.look)
-        self._parts = _order_parts(statement)
-        self.ranks = _product([len(values) for _, values in self._parts])
+        self._order_parts = _order_parts(statement)
+        self.ranks = _product([len(values) for _, values in self._order_parts])
         self.order = _number_order(statement)
         self._changes = _compiled_changes(statement)
         self._triggers = [(shapes.findings(trigger.look), _compiled(trigger.columns, trigger.change))
@@ -80,14 +81,14 @@ class Step:
             return asked, -1
         cells = self.shapes.cells(shape)
         worth = 0
-        for column, values in self._parts:
+        for column, values in self._order_parts:
             worth = worth * len(values) + values.index(cells[column])
         return asked, worth
 
     def _left_of(self, shape, number, place, told):
         if self.drops:
             return ABSENT
-        throw = self.signs.told if told else self.signs.throw
+        throw = self.signs.throw_of_home if told else self.signs.throw
         cells = self._changed(self.shapes.cells(shape), self._changes[place], throw)
         return self.shapes.number_of(self._triggered(cells, number))
 

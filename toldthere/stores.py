@@ -8,7 +8,9 @@ from toldthere.scripts import are_triggers, is_statement
 from toldthere.tables import Table
 from toldthere.trials import Source, Trial
 
-OPEN, ENDED, UNDONE = "open", "ended", "undone"
+OPEN = "open"
+ENDED = "ended"
+UNDONE = "undone"
 
 
 class Home:
@@ -136,7 +138,7 @@ class Dealing:
         for number in trial.results:
             self._originals.setdefault(number, trial.before.get(number))
         self._done.append((trial, home.following))
-        return list(trial.numbers)
+        return list(trial.chosen)
 
     def taken(self):
         """The ascending list of the numbers of all rows that were taken or put."""
@@ -214,7 +216,7 @@ class Copy:
             raise Halted(self.place)
         trial.fill(self._source, entry.moment, entry.throws)
         self._take(trial.results, number + 1 if entry.statement.kind == "put" else 0)
-        return list(trial.numbers)
+        return list(trial.chosen)
 
     def follow(self, home, *, upto=None):
         """Steps to the end of the log, or to a place ahead of it, and returns how many steps it made."""

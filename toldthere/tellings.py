@@ -30,16 +30,16 @@ class Teller:
     """A store that runs statements with rows lying as they must, and keeps what it is told of each."""
 
     def __init__(self, table, triggers, words):
-        self.rows = table.rows()
+        self.held = table.rows()
         self.following = table.following
-        self.entries = []
+        self.written = []
         self._columns = table.columns
         self._triggers = triggers
         self._words = words
 
-    def table(self):
+    def present(self):
         """The present table."""
-        return Table(self._columns, self.rows, following=self.following)
+        return Table(self._columns, self.held, following=self.following)
 
     def run(self, statement, first_numbers, told=None, number=None):
         """Runs a statement whose first rows have these numbers where any can be taken; tells if it was refused.
@@ -49,36 +49,36 @@ class Teller:
         moment = None
         if has_source(statement, "moment"):
             moment = self._words.next_word() if told is None else told[1]
-        runs = is_run(statement, self.rows)
+        runs = is_run(statement, self.held)
         if statement.kind == "put":
             self._put(statement, runs, moment, number)
             return False
-        lying = [*first_numbers, *[other for other in self.rows if other not in first_numbers]]
-        numbers = taken(statement, self.rows, lying) if runs else []
+        lying = [*first_numbers, *[other for other in self.held if other not in first_numbers]]
+        numbers = taken(statement, self.held, lying) if runs else []
         throws = {}
         for row in thrown(statement, numbers):
             known = {} if told is None else told[2]
             throws[row] = known[row] if row in known else self._words.next_word()
-        self.entries.append((numbers, moment, throws))
+        self.written.append((numbers, moment, throws))
         if runs and statement.must and len(numbers) == 0:
             return True
-        left = results(statement, self.rows, numbers, self._triggers, moment, throws)
-        self.rows = changed_rows(self.rows, left)
+        left = results(statement, self.held, numbers, self._triggers, moment, throws)
+        self.held = changed_rows(self.held, left)
         return False
 
     def take(self, numbers, home_rows, following):
         """Is told what became of rows at home."""
-        self.rows = changed_rows(self.rows, {number: home_rows.get(number) for number in numbers})
+        self.held = changed_rows(self.held, {number: home_rows.get(number) for number in numbers})
         self.following = max(self.following, int(following))
-        self.entries.append(None)
+        self.written.append(None)
 
     def _put(self, statement, runs, moment, number):
         if number is None:
             number = self.following
         if runs:
-            self.rows = changed_rows(self.rows, {number: put_row(statement, number, self._triggers, moment)})
+            self.held = changed_rows(self.held, {number: put_row(statement, number, self._triggers, moment)})
         self.following = max(self.following, int(number + 1))
-        self.entries.append(([number] if runs else [], moment, {}))
+        self.written.append(([number] if runs else [], moment, {}))
 
 
 def _spelled(count):
@@ -99,7 +99,7 @@ def start_of(found, words):
     free = kit.greatest + 1
     zones = found.node.zones
     following = len([zone for zone in zones if zone.role == SLOT]) + 1
-    for zone, _, origin in found.rows:
+    for zone, _, origin in found.path:
         number = zone.number
         if zone.role == PLACE:
             number = None
@@ -111,7 +111,7 @@ def start_of(found, words):
         if origin != ABSENT:
             rows[number] = _row_of(kit.shapes.cells(origin), words)
     places = [None if number is not None else following + zone.offset
-              for number, (zone, _, _) in zip(numbers, found.rows)]
+              for number, (zone, _, _) in zip(numbers, found.path)]
     numbers = [place if number is None else number for number, place in zip(numbers, places)]
     return Table(kit.columns, rows, following=following), numbers
 
@@ -143,7 +143,7 @@ def told_course(found):
         if event.at_home:
             drawn[event.index] = home.following
             home.run(statement, first)
-            behind[event.index] = (home.entries[-1], home.rows, home.following)
+            behind[event.index] = (home.written[-1], home.held, home.following)
         elif halted is None and event.as_rows:
             (taken_there, _, _), rows, following = behind[event.index]
             copy.take(taken_there, rows, following)
@@ -160,7 +160,7 @@ def _first_numbers(found, numbers, place):
     first = {}
     for digit, event, at in found.node.takes:
         if event == place:
-            for number, (_, fate, _) in zip(numbers, found.rows):
+            for number, (_, fate, _) in zip(numbers, found.path):
                 if fate[3] & digit:
                     first[at] = number
     return [first[at] for at in sorted(first, key=int)]

@@ -46,7 +46,7 @@ def read(written):
     rest = lines.pop()
     reader = Reader()
     for place, line in enumerate(lines):
-        if not reader.takes(line):
+        if not reader.goes_on_with(line):
             raise BadText(place + 1)
     if rest != "" or not reader.is_whole():
         raise BadText(len(lines) + 1)
@@ -66,7 +66,7 @@ class Reader:
         # The statements of a script, or those of each dealing.
         self._lists = [[]]
 
-    def takes(self, line):
+    def goes_on_with(self, line):
         """Takes a line, if some text goes on with it, and tells whether it does."""
         if self._columns is None:
             self._columns = read_columns(line)
@@ -74,7 +74,7 @@ class Reader:
             return self._columns is not None
         word = line.partition(" ")[0]
         if word in ("row", "following"):
-            return self._stage in (COLUMNS, ROWS) and (self._takes_row(line) if word == "row" else self._takes_end(line))
+            return self._takes_row(line) if word == "row" else self._takes_following(line)
         if self._stage in (ROWS, TABLE):
             return False
         if word in (HERE, THERE):
@@ -97,6 +97,8 @@ class Reader:
         return Script(self._columns, self._lists[0], here=here, there=there)
 
     def _takes_row(self, line):
+        if self._stage not in (COLUMNS, ROWS):
+            return False
         words = line.split(" ")
         number = read_number(words[1]) if len(words) > 1 else None
         # The following number is greater, and has forty digits at most, too.
@@ -107,9 +109,9 @@ class Reader:
         self._rows[number] = words[2:]
         return True
 
-    def _takes_end(self, line):
+    def _takes_following(self, line):
         number = read_number(line.removeprefix("following "))
-        if number is None or number <= self._greatest:
+        if self._stage not in (COLUMNS, ROWS) or number is None or number <= self._greatest:
             return False
         self._stage = TABLE
         self._following = number

@@ -3,7 +3,7 @@
 from toldthere.errors import BadOrder, BadWord, NoWords
 from toldthere.kinds import is_word
 from toldthere.locks import Mark, has_to_wait
-from toldthere.runs import (NEW_MOMENT, asks_how_rows_lie, found, has_source, is_lying, is_run, put_row, results,
+from toldthere.runs import (NEW_MOMENT, asks_how_rows_lie, has_source, is_lying, is_run, put_row, results,
                             taken, thrown)
 
 
@@ -35,8 +35,8 @@ class Trial:
         # The number that a Put draws, or is told.
         self.number = number
         self.runs = is_run(statement, rows)
-        self.numbers = self._numbers(lying)
-        self.is_refused = statement.must and self.runs and len(self.numbers) == 0
+        self.chosen = self._choose(lying)
+        self.is_refused = statement.must and self.runs and len(self.chosen) == 0
         self.moment = None
         self.throws = {}
         self._triggers = triggers
@@ -48,7 +48,7 @@ class Trial:
         known = {} if throws is None else throws
         if has_source(self.statement, "moment"):
             self.moment = source.next_word(self.before) if moment is None else moment
-        for number in thrown(self.statement, self.numbers):
+        for number in thrown(self.statement, self.chosen):
             self.throws[number] = known[number] if number in known else source.next_word(self.before)
         self.results = self._results(self.moment)
 
@@ -57,7 +57,7 @@ class Trial:
         numbers = {number: True for number in [*self.results, *other.results]}
         return any([has_to_wait(level, self._mark(number), other._mark(number)) for number in numbers])
 
-    def _numbers(self, lying):
+    def _choose(self, lying):
         if not self.runs:
             return []
         if self.statement.kind == "put":
@@ -71,8 +71,8 @@ class Trial:
 
     def _results(self, moment):
         if self.statement.kind != "put":
-            return results(self.statement, self.before, self.numbers, self._triggers, moment, self.throws)
-        return {number: put_row(self.statement, number, self._triggers, moment) for number in self.numbers}
+            return results(self.statement, self.before, self.chosen, self._triggers, moment, self.throws)
+        return {number: put_row(self.statement, number, self._triggers, moment) for number in self.chosen}
 
     def _mark(self, number):
         """What the statement has to do with the row of a number."""

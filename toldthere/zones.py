@@ -11,8 +11,9 @@ from toldthere.shapes import ABSENT
 from toldthere.steps import BEYOND, clamped
 
 # At most one row has the number of a slot, any rows lie in the middle, and a Put draws the number of a place.
-SLOT, MIDDLE, PLACE = "slot", "middle", "place"
-NOTHING = (ABSENT, ABSENT, (), 0, 0, 0)
+SLOT = "slot"
+MIDDLE = "middle"
+PLACE = "place"
 
 
 class Zone:
@@ -42,10 +43,13 @@ def layouts(course):
 def first_fates(course, zones):
     """For each zone a dict from what its rows can have come to ahead of all events to their shapes then."""
     kinds = course.kit.shapes.kinds()
-    rows = {(kind, kind, (), 0, 0, 0): kind for kind in kinds}
-    nothing = {NOTHING: ABSENT}
-    fates = {SLOT: {**nothing, **rows}, MIDDLE: rows, PLACE: nothing}
-    return [{fate: kind for fate, kind in fates[zone.role].items()} for zone in zones]
+    shapes = {SLOT: [ABSENT, *kinds], MIDDLE: kinds, PLACE: [ABSENT]}
+    return [fates_of(shapes[zone.role]) for zone in zones]
+
+
+def fates_of(shapes):
+    """The fates of rows with these shapes ahead of all events."""
+    return {(shape, shape, (), 0, 0, 0): shape for shape in shapes}
 
 
 def found_ranks(event, zones, fates):
