@@ -40,6 +40,11 @@ class Trial:
         self.moment = None
         self.throws = {}
         self._triggers = triggers
+        # The looks that the statement uses, and what they are known to find.
+        self._looks = [] if statement.when is None else [statement.when[1]]
+        if self.runs and statement.kind != "put":
+            self._looks.append(statement.look)
+        self._found = {}
         # From the numbers that are taken or put to what becomes of the rows, with signs instead of new words.
         self.results = self._results(NEW_MOMENT)
 
@@ -76,12 +81,14 @@ class Trial:
 
     def _mark(self, number):
         """What the statement has to do with the row of a number."""
-        looks = [] if self.statement.when is None else [self.statement.when[1]]
-        if self.runs and self.statement.kind != "put":
-            looks.append(self.statement.look)
-
         def finds(row):
-            return row is not None and any([look(row, number) for look in looks])
+            return self._finds(row, number)
 
         row = self.before.get(number)
         return Mark(number in self.results, finds(row), row, self.results.get(number), finds)
+
+    def _finds(self, row, number):
+        """Whether a look that the statement uses finds a row with a number."""
+        if (row, number) not in self._found:
+            self._found[row, number] = row is not None and any([look(row, number) for look in self._looks])
+        return self._found[row, number]
