@@ -105,13 +105,21 @@ class MendsTest(unittest.TestCase):
         drop = Drop(numbered(C, [1, 2]), most=1, how="rows")
         self.mended([(0, "number")], drop, Put(C, ("new", ("moment",)), when=("some", numbered(C, [1]))))
 
-    def test_two_pairs_for_one_statement(self):
-        # Told as its rows it would not reach the row that just the copy takes.
+    def test_values_beside_rows(self):
         columns = Columns([("s", ["new", "old"]), ("t", ["yes", "no"])], ["f"])
         new, yes, no = has(columns, "s", ["new"]), has(columns, "t", ["yes"]), has(columns, "t", ["no"])
         script = Script(columns, [Change(new & no, [AGE]), Change(new | yes, {**AGE, **MOMENT}),
                                   Change(no, {"f": ("value", "w")}), Change(yes, [THROW])])
         self.assertEqual(mends(script), [(1, "values"), (3, "rows")])
+
+    def test_number_and_values_for_one_statement(self):
+        # Each of the two first statements can part the rows 1 and 2, and the third one heals what they did; but
+        # where none of them is run, it takes both rows itself, and one of them gets a moment.
+        pair, old = NEW & numbered(C, [1, 2]), {**AGE, "f": ("value", "w")}
+        parts = [Change(pair, [old], when=("some", has(C, "f", [word]))) for word in ("x", "y")]
+        script = Script(C, [*parts, Change(pair, [old, MOMENT])])
+        self.assertEqual(mends(script), fewest(script))
+        self.assertEqual(mends(script), [(2, "number"), (2, "values")])
 
     def test_by_chance(self):
         for seed in range(120):
