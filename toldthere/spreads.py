@@ -10,6 +10,8 @@ def spread(plan):
     if proofs.find(0, len(plan), Goal(ENDLESS)) is not None:
         return None
     most = 0
-    while proofs.find(0, len(plan), Goal(WIDE, least=most + 1)) is not None:
-        most += 1
+    found = proofs.find(0, len(plan), Goal(WIDE, least=1))
+    while found is not None:
+        most = len([fate for _, fate, _ in found.path if fate[0] != fate[1]])
+        found = proofs.find(0, len(plan), Goal(WIDE, least=most + 1))
     return most
