@@ -73,85 +73,120 @@ def _most_unlike(node, hopes, sought):
 
 def cheapest(node, sought, endless):
     """As few rows as possible by which all comes true: a list of zones, fates and first shapes, None if none do."""
-    layers = [{(0, 0): None}]
-    for zone, known in zip(node.zones, node.fates):
-        letters = _letters(node, zone, known, endless)
+    # A state tells by digits what has come true and, behind these, how many unlike numbers there are, up to as many
+    # as are sought. With each state stands the least number of rows for it, and how these have come to it.
+    best = {0: (0, None)}
+    top = sought * node.digit
+    end = node.needs + top
+    for place, (zone, known) in enumerate(zip(node.zones, node.fates)):
+        letters = _letters(node, zone, known, endless, node.digit if sought else 0)
         if zone.role == MIDDLE:
-            layers = _with_any(layers, letters, zone, node, sought)
+            best = _with_any(best, letters, zone, top, end if place == len(node.zones) - 1 else None)
         else:
-            layers = _with_one(layers, letters, zone, node, sought)
-    for layer in layers:
-        if (node.needs, sought) in layer:
-            rows = []
-            path = layer[node.needs, sought]
-            while path is not None:
-                path, *row = path
-                rows.append(tuple(row))
-            return rows[::-1]
-    return None
+            best = _with_one(best, letters, zone, top)
+    if end not in best:
+        return None
+    rows = []
+    path = best[end][1]
+    while path is not None:
+        path, *row = path
+        rows.append(tuple(row))
+    return rows[::-1]
 
 
-def _letters(node, zone, known, endless):
-    """The fates of a zone that differ in what matters at the end, each once."""
-    letters = {}
+def _letters(node, zone, known, endless, digit):
+    """Of the fates of a zone those that may be of use, each with its digits; digit is that of one more unlike number.
+
+    This is a list of tuples: what comes true, what must have, what must not, the digit or 0, the number of rows,
+    the fate and the first shape.
+    """
+    groups = {}
     for fate, origin in known.items():
         unlike = fate[0] != fate[1]
         if endless:
             # There can be any number only of such rows as are never taken as one of the first.
             unlike = unlike and zone.role == MIDDLE and fate[3] & node.single == 0
-        letter = (fate[3], fate[4], fate[5], unlike)
-        if letter not in letters or origin == ABSENT:
-            letters[letter] = (fate, origin)
-    return [(*letter, fate, origin) for letter, (fate, origin) in letters.items()]
+        # A row that Puts may put, and no row at all, are none of the table at the beginning.
+        rows = 1 if origin != ABSENT else 0
+        taken = fate[3] & node.single
+        # More of these digits never do harm: of fates that differ in them alone, the greatest are enough.
+        free = fate[3] ^ taken | (digit if unlike else 0)
+        group = groups.setdefault((taken, fate[4], fate[5]), [])
+        if all([free & ~other or rows < less for other, less, _, _ in group]):
+            left = [one for one in group if one[0] & ~free or one[1] < rows]
+            groups[taken, fate[4], fate[5]] = [*left, (free, rows, fate, origin)]
+    return [(taken | free & ~digit, ahead, unless | taken, free & digit, rows, fate, origin)
+            for (taken, ahead, unless), group in groups.items() for free, rows, fate, origin in group]
 
 
-def _with_one(layers, letters, zone, node, sought):
-    """The states behind a zone with at most one row, by the number of rows ahead."""
-    behind = [{} for _ in range(len(layers) + 1)]
-    for rows, layer in enumerate(layers):
-        for state in layer:
-            for letter in letters:
-                left = _state_behind(state, letter, node.single, sought)
-                if left is not None:
-                    # A row that Puts may put, and no row at all, are none of the table at the beginning.
-                    more = rows + (1 if letter[5] != ABSENT else 0)
-                    if left not in behind[more]:
-                        behind[more][left] = (layer[state], zone, letter[4], letter[5])
+def _with_one(best, letters, zone, top):
+    """The states behind a zone with at most one row."""
+    behind = {}
+    for state, (rows, path) in best.items():
+        for sure, ahead, unless, digit, more, fate, origin in letters:
+            if state & ahead == ahead and state & unless == 0:
+                left = (state | sure) + (digit if state < top else 0)
+                if left not in behind or behind[left][0] > rows + more:
+                    behind[left] = (rows + more, (path, zone, fate, origin))
     return behind
 
 
-def _with_any(layers, letters, zone, node, sought):
-    """The states behind the zone in which any rows may lie."""
-    seen = {}
-    behind = []
+def _with_any(best, letters, zone, top, end):
+    """The states behind the zone in which any rows may lie; those with more rows than end, if it comes, may lack."""
+    behind = {state: best[state] for state in best}
+    # The states by their numbers of rows.
+    waiting = []
+    for state, (rows, _) in best.items():
+        _put_at(waiting, rows, [state])
     rows = 0
-    while rows < len(layers) or rows < len(behind):
-        layer = {} if rows >= len(behind) else behind[rows]
-        if rows >= len(behind):
-            behind.append(layer)
-        if rows < len(layers):
-            for state in layers[rows]:
-                layer.setdefault(state, layers[rows][state])
-        following = {}
-        for state in list(layer):
-            if state in seen:
-                del layer[state]
+    while rows < len(waiting) and (end not in behind or behind[end][0] > rows):
+        following = []
+        for state in waiting[rows]:
+            least, path = behind[state]
+            if least < rows:
                 continue
-            seen[state] = True
-            for letter in letters:
-                left = _state_behind(state, letter, node.single, sought)
-                if left is not None and left not in seen and left not in following:
-                    following[left] = (layer[state], zone, letter[4], letter[5])
-        if following:
-            behind.append(following)
+            for sure, ahead, unless, digit, more, fate, origin in letters:
+                if state & ahead == ahead and state & unless == 0:
+                    left = (state | sure) + (digit if state < top else 0)
+                    if left not in behind or behind[left][0] > rows + more:
+                        behind[left] = (rows + more, (path, zone, fate, origin))
+                        following.append(left)
+        _put_at(waiting, rows + 1, following)
         rows += 1
     return behind
 
 
-def _state_behind(state, letter, single, sought):
-    """What has come true, and how many unlike numbers there are, behind one more row; None if it cannot be."""
-    true, count = state
-    sure, ahead, unless, unlike = letter[:4]
-    if true & ahead != ahead or true & unless or true & sure & single:
-        return None
-    return true | sure, min(int(sought), count + 1) if unlike else count
+def widest(node):
+    """How many unlike numbers there can be at the end, if there is a greatest number; None if no rows come to it."""
+    # From each state to the greatest number of unlike numbers with it.
+    best = {0: 0}
+    for zone, known in zip(node.zones, node.fates):
+        letters = _letters(node, zone, known, False, node.digit)
+        behind = {state: best[state] for state in best} if zone.role == MIDDLE else {}
+        changed = list(best)
+        while changed:
+            following = {}
+            for state in changed:
+                count = best[state]
+                for sure, ahead, unless, digit, _, _, _ in letters:
+                    left = state | sure
+                    more = count + (1 if digit else 0)
+                    # Rows of which there can be any number are none of those that come to the end.
+                    if (state & ahead == ahead and state & unless == 0 and behind.get(left, -1) < more
+                            and not (zone.role == MIDDLE and left == state)):
+                        behind[left] = more
+                        following[left] = True
+            if zone.role != MIDDLE:
+                break
+            best = behind
+            changed = list(following)
+        best = behind
+    return best.get(node.needs)
+
+
+def _put_at(waiting, rows, states):
+    """Adds states to those with so many rows."""
+    if len(states) > 0:
+        while len(waiting) <= rows:
+            waiting.append([])
+        waiting[rows].extend(states)

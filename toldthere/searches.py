@@ -79,14 +79,8 @@ class Search:
 
     def _is_healed(self, node):
         """Whether home and copy are alike, and stay so."""
-        if not node.course.plain or node.place % 2 == 1 or node.place == 0 or node.halted is not None:
-            return False
-        if self.is_steady_behind is None:
-            return False
-        if any([fate[0] != fate[1] or len(fate[2]) > 0 for known in node.fates for fate in known]):
-            return False
         is_steady_behind = self.is_steady_behind
-        return is_steady_behind(node.place // 2)
+        return is_steady_behind is not None and is_healed(node) and is_steady_behind(node.place // 2)
 
     def _finish(self, node, hopes):
         rows = cheapest(node, self._unlike_sought(node), self.goal.kind == ENDLESS)
@@ -99,3 +93,10 @@ class Search:
         can_halt = not event.at_home and self.goal.lets_halt(event.index)
         for behind in nodes_behind(node, can_halt, can_halt and self.goal.kind == HALT, self.barring):
             self._add(behind, hopes)
+
+
+def is_healed(node):
+    """Whether home and copy are surely alike behind a statement that both have run."""
+    if not node.course.plain or node.place % 2 == 1 or node.place == 0 or node.halted is not None:
+        return False
+    return all([fate[0] == fate[1] and len(fate[2]) == 0 for known in node.fates for fate in known])

@@ -14,7 +14,10 @@ def trimmed(node):
     alive = {node.single: True} if node.single in reached[-1] else {}
     useful = []
     for place in range(len(node.zones) - 1, -1, -1):
-        alive, used = _alive(reached[place], alive, letters[place], node.zones[place].role == MIDDLE)
+        if node.zones[place].role == MIDDLE:
+            alive, used = _alive_in_middle(reached[place + 1], alive, letters[place])
+        else:
+            alive, used = _alive(reached[place], alive, letters[place])
         useful.append(used)
     useful = useful[::-1]
     return [{fate: origin for fate, origin in known.items() if _letter(node, fate) in used}
@@ -31,48 +34,57 @@ def _can_bar(node):
 
 
 def _letter(node, fate):
-    return fate[3] & node.single, fate[4], fate[5]
+    """The digits of a row that is taken, those that must have come true ahead of it, and those that must not."""
+    taken = fate[3] & node.single
+    return taken, fate[4], fate[5] | taken
 
 
 def _letters(node, known):
     return list({_letter(node, fate): True for fate in known})
 
 
-def _behind(state, letter):
-    """The digits behind a row, None if it cannot lie behind these."""
-    taken, ahead, unless = letter
-    if state & ahead != ahead or state & unless or state & taken:
-        return None
-    return state | taken
-
-
 def _reached(states, letters, many):
-    """The states behind a zone."""
+    """The states, which are digits that have come true, behind a zone."""
     reached = {state: True for state in states} if many else {}
     waiting = list(states)
     while waiting:
         state = waiting.pop()
-        for letter in letters:
-            left = _behind(state, letter)
-            if left is not None and left not in reached:
+        for taken, ahead, unless in letters:
+            left = state | taken
+            if state & ahead == ahead and state & unless == 0 and left not in reached:
                 reached[left] = True
                 if many:
                     waiting.append(left)
     return reached
 
 
-def _alive(states, behind, letters, many):
+def _alive(states, behind, letters):
     """The states ahead of a zone from which the end can be reached, and the letters that are of use for it."""
-    if not many:
-        steps = [(state, letter, _behind(state, letter)) for state in states for letter in letters]
-        useful = [(state, letter) for state, letter, left in steps if left is not None and left in behind]
-        return {state: True for state, _ in useful}, {letter: True for _, letter in useful}
+    alive, used = {}, {}
+    for state in states:
+        for letter in letters:
+            taken, ahead, unless = letter
+            if state & ahead == ahead and state & unless == 0 and state | taken in behind:
+                alive[state] = True
+                used[letter] = True
+    return alive, used
+
+
+def _alive_in_middle(inner, behind, letters):
+    """The same for the zone in which any rows may lie; inner are all states in it."""
     alive = {state: True for state in behind}
-    inner = _reached(states, letters, True)
+    used = {}
     # A row makes digits come true and none come untrue, so that the greater states come behind the lesser ones.
     for state in sorted(inner, key=int, reverse=True):
-        if any([_behind(state, letter) in alive for letter in letters]):
+        can_end = state in alive
+        lead_on = []
+        for letter in letters:
+            taken, ahead, unless = letter
+            if state & ahead == ahead and state & unless == 0 and (taken == 0 or state | taken in alive):
+                lead_on.append(letter)
+                can_end = can_end or taken > 0
+        if can_end:
             alive[state] = True
-    used = {letter: True for state in inner for letter in letters
-            if state in alive and _behind(state, letter) in alive}
+            for letter in lead_on:
+                used[letter] = True
     return alive, used
