@@ -99,14 +99,8 @@ def woven(dealings, level):
     statements = [statement for dealing in dealings.statements() for statement in dealing]
     kit = Kit(dealings.columns, statements, dealings.here, dealings.there)
     search = Search(Goal(PART), barring=Barring(level))
-    firsts = _first_indexes(dealings)
-    known = []
-    for weaving in weavings(dealings):
-        order, told, waits = _course_of(weaving, firsts)
-        # Weavings that differ just in when a dealing ends, though no other one waits for it, are the same here.
-        if (order, told, waits) not in known:
-            known.append((order, told, waits))
-            search.add_all(Course(kit, statements, order, told, waits=waits, weaving=weaving))
+    for weaving, order, told, waits in _courses(dealings):
+        search.add_all(Course(kit, statements, order, told, waits=waits, weaving=weaving))
     found = search.result()
     if found is None:
         return None
@@ -155,6 +149,20 @@ def _mark(step, zone, runs, took, before, left):
         return asked or runs and rank >= 0
 
     return Mark(took, finds(before), before, left, finds)
+
+
+def _courses(dealings):
+    """The weavings of which others can happen only where one of these can, each with what makes its course."""
+    firsts = _first_indexes(dealings)
+    soonest = {}
+    for weaving in weavings(dealings):
+        order, told, waits = _course_of(weaving, firsts)
+        # Of weavings that differ just in when dealings end, the one in which they end soonest bars least.
+        count = sum([len(others) for others in waits.values()])
+        key = (tuple(order), tuple(told))
+        if key not in soonest or soonest[key][0] > count:
+            soonest[key] = (count, (weaving, order, told, waits))
+    return [course for _, course in soonest.values()]
 
 
 def _course_of(weaving, firsts):
