@@ -62,12 +62,13 @@ def taken(statement, rows, lying):
     """The numbers of the rows that a Drop or Change takes, in their order; lying lists all numbers as rows lie."""
     if statement.most is None:
         return found(statement.look, rows)
+    look = statement.look
     order = lying if asks_how_rows_lie(statement) else sorted(rows, key=int)
     if statement.by and statement.by[-1] == "-number":
         order = order[::-1]
     ranked = {}
     for number in order:
-        if statement.look(rows[number], number):
+        if look(rows[number], number):
             ranked.setdefault(rank(statement, rows[number]), []).append(number)
     level = [number for worth in sorted(ranked, key=int) for number in ranked[worth]]
     return level[:statement.most]
@@ -92,7 +93,8 @@ def _changed(columns, row, change, moment, throw):
 def _triggered(triggers, row, number):
     """The row behind all triggers."""
     for trigger in triggers:
-        if trigger.look(row, number):
+        look = trigger.look
+        if look(row, number):
             row = _changed(trigger.columns, row, trigger.change, None, None)
     return row
 
