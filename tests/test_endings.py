@@ -83,6 +83,16 @@ class EndingsTest(unittest.TestCase):
         self.assertEqual(len(self.check(plan(Change(NEW, [AGE], by=["number"])), table)), 1)
         self.assertEqual(len(self.check(plan(Drop(NEW, most=1), Drop(NEW, most=1), Put(C, ("old", "w"))), table)), 15)
 
+    def test_orders_of_several_columns(self):
+        columns = Columns([("s", ["a", "b"]), ("t", ["a", "b", "c"])], ["f"])
+        pairs = [(s, t) for t in "bca" for s in "ba"]
+        table = Table(columns, {number: (*pair, "x") for number, pair in enumerate(pairs, 1)})
+        for by, pair in ((["s", "t"], ("a", "a")), (["s", "-t"], ("a", "c")), (["-t", "s"], ("a", "c")),
+                         (["t", "-s"], ("b", "a")), (["-s", "-t", "number"], ("b", "c"))):
+            drop = Drop(every(columns), most=1, by=by)
+            left, = self.check(Script(columns, [drop]), table)
+            self.assertEqual(set(table.rows().values()) - set(left.rows().values()), {(*pair, "x")})
+
     def test_refused(self):
         self.assertEqual(endings(plan(Drop(NEW, must=True)), Table(C, {})), [])
         found = self.check(plan(Drop(ALL, most=1), Drop(NEW, must=True)),
@@ -206,6 +216,15 @@ class AlikeTest(unittest.TestCase):
         self.assertIsNone(self.check(plan(change, there=[HERE]), plan(change.told("rows"))))
         self.assertEqual(self.check(plan(change, here=[HERE]), plan(change)), 1)
         self.assertIsNone(self.check(plan(change, here=[HERE]), plan(Change(NEW, {**AGE, "f": ("value", "w")}))))
+
+    def test_words_that_are_named_in_one_place_alone(self):
+        zed, change = has(C, "f", ["zed"]), Change(NEW, AGE)
+        trigger = Trigger(zed, {"s": ("value", "new")})
+        self.assertEqual(self.check(plan(change, here=[trigger]), plan(change)), 1)
+        self.assertEqual(self.check(plan(change, here=[HERE]), plan(change, here=[HERE, trigger])), None)
+        self.assertEqual(self.check(plan(change), plan(change, here=[Trigger(OLD, {"f": ("value", "zed")})])), 1)
+        self.assertEqual(self.check(plan(change), plan(Change(NEW, AGE, when=("none", zed)))), 1)
+        self.assertEqual(self.check(plan(), plan(Drop(zed))), 1)
 
     def test_words_that_stand_in_two_columns(self):
         two = Columns([], ["f", "g"])

@@ -76,10 +76,12 @@ class MendsTest(unittest.TestCase):
         # Told as its rows, the second change would not reach the rows of which home has changed others ahead.
         columns = Columns([("s", ["new", "old"]), ("t", ["yes", "no"])], ["f"])
         new, yes, no = has(columns, "s", ["new"]), has(columns, "t", ["yes"]), has(columns, "t", ["no"])
-        script = Script(columns, [Change(new & no, [AGE]), Change(new | yes, {**AGE, **MOMENT}),
-                                  Change(no, {"f": ("value", "w")})])
-        self.assertEqual(mends(script), [(1, "values")])
-        self.assertEqual(mends(script), fewest(script))
+        for source in (MOMENT, THROW):
+            change = Change(new | yes, {**AGE, **source})
+            for how, pairs in (("words", [(1, "values")]), ("values", []), ("rows", [(0, "number")])):
+                script = Script(columns, [Change(new & no, [AGE]), change.told(how), Change(no, {"f": ("value", "w")})])
+                self.assertEqual(mends(script), pairs)
+                self.assertEqual(mends(script), fewest(script))
 
     def test_what_more_pairs_spoil(self):
         heal = Change(ALL, {"s": ("value", "old")})

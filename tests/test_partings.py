@@ -169,6 +169,44 @@ class PartingTest(PartingCase):
         self.assertEqual((first.halted, len(first.start), len(first.copy)), (1, 2, 2))
         self.assertEqual(first.copy[1], ([], None, {}))
 
+    def test_halting_where_the_tables_are_alike(self):
+        # Home changes the row to what the copy has made of it already, so that the copy finds none.
+        there = [Trigger(has(C, "f", ["w"]), AGE)]
+        script = plan(Change(ALL, {"f": ("value", "w")}), Change(NEW, AGE, must=True), there=there)
+        for script in (script, script + plan(Change(ALL, AGE))):
+            told = self.check_rows(script, 1)
+            self.assertEqual((told.halted, told.here), (1, told.there))
+            first, = halts(script)
+            self.check(script, first)
+            self.assertEqual(len(first.start), 1)
+            self.assertEqual(healed(script), [False] * len(script))
+            self.assertIsNone(wide(script, 1))
+
+    def test_words_that_are_named_in_one_place_alone(self):
+        zed, make_zed = has(C, "f", ["zed"]), {"f": ("value", "zed")}
+        change = Change(ALL, AGE)
+        for script in (plan(change, there=[Trigger(zed, {"s": ("value", "new")})]),
+                       plan(change, here=[Trigger(zed, {"s": ("value", "new")})]),
+                       plan(Change(ALL, MOMENT, when=("some", zed))), plan(Change(zed, MOMENT)),
+                       plan(change, there=[Trigger(OLD & zed, {"f": ("value", "w")})])):
+            self.assertEqual(self.check_rows(script, 1).start.rows().popitem()[1][1], "zed")
+        self.check_rows(plan(change, there=[Trigger(OLD, make_zed)]), 1)
+        self.check_rows(plan(change, here=[Trigger(OLD, make_zed)]), 1)
+        self.check_rows(plan(Change(NEW, [make_zed])), 2)
+        self.check_rows(plan(Change(NEW, make_zed)), None)
+        self.check_rows(plan(Put(C, ("new", "zed"))), None)
+
+    def test_orders_of_several_columns(self):
+        columns = Columns([("s", ["a", "b"]), ("t", ["a", "b"])])
+        age = {"s": ("value", "b"), "t": ("value", "b")}
+        for by, rows in ((["s", "-t"], 2), (["-t", "s"], 2), (["t", "s", "number"], None)):
+            self.check_rows(Script(columns, [Change(every(columns), [age], by=by)]), rows)
+        # The row that is taken is the only one of its kind, so that it does not matter how rows lie.
+        kind = has(columns, "s", ["a"]) & has(columns, "t", ["b"])
+        only = Drop(kind & ~numbered(columns, [1]))
+        first = Change(every(columns), [age], by=["s", "-t"], when=("some", kind))
+        self.check_rows(Script(columns, [only, first]), None)
+
     def test_halts_in_their_order(self):
         script = plan(Drop(ALL, most=1), Drop(NEW, must=True, how="values"), Change(OLD, MOMENT, must=True),
                       Drop(ALL, must=True, how="rows"))

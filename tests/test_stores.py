@@ -105,6 +105,18 @@ class HomeTest(StoreCase):
         self.assertEqual(Home(TABLE).run(Drop(ALL, most=2)), [1, 3])
         self.assertEqual(Home(TABLE).run(Drop(ALL, most=2, by=["-s"])), [4, 1])
 
+    def test_orders_of_several_columns(self):
+        columns = Columns([("s", ["a", "b"]), ("t", ["a", "b", "c"])])
+        rows = {1: ("b", "b"), 2: ("a", "b"), 3: ("b", "c"), 4: ("a", "c"), 5: ("b", "a"), 6: ("a", "a"), 8: ("a", "c")}
+        for by, numbers in ((["s", "t"], [6, 2]), (["s", "-t"], [4, 8]), (["-t", "s"], [4, 8]), (["t", "-s"], [5, 6]),
+                            (["s", "-t", "-number"], [8, 4]), (["-s", "-t", "number"], [3, 1])):
+            home = Home(Table(columns, rows))
+            self.assertEqual(home.run(Drop(every(columns), most=2, by=by)), numbers)
+            copy = Copy(Table(columns, rows), lying=lambda numbers: numbers[::-1])
+            level = len(set(rows[number] for number in numbers)) == 1
+            told = numbers if not level or "number" in by[-1] else numbers[::-1]
+            self.assertEqual(copy.step(home), told)
+
     def test_lying(self):
         lying = Calls([4, 3, 1], (3, 4, 1), [1, 4], [], [])
         home = Home(TABLE, lying=lying)

@@ -195,6 +195,15 @@ class WovenTest(unittest.TestCase):
         self.assertEqual(least_level(Dealings(C, [[Drop(numbered(C, [1]))], [Drop(numbered(C, [2]))]])), "rows")
         self.assertIsNone(least_level(Dealings(C, [[Drop(ALL, most=1)], [Drop(NEW)]])))
 
+    def test_a_statement_that_is_not_run_does_not_use_its_look(self):
+        named = has(C, "f", ["w"])
+        dealings = Dealings(C, [[Drop(NEW, when=("some", named))], [Change(NEW, {"f": ("value", "w")})]])
+        self.check(dealings, "found", 1)
+        self.check(dealings, "looks", None)
+        # Without a guard it is run, and one of them has to wait for the other one, or both take the row.
+        dealings = Dealings(C, [[Drop(NEW)], [Change(NEW, {"f": ("value", "w")})]])
+        self.check(dealings, "rows", None)
+
     def test_rows_that_are_put(self):
         # A row that is put is found by the look of the other dealing as it is left.
         dealings = Dealings(C, [[Put(C, ("old", "w"), how="values")], [Drop(OLD)]])

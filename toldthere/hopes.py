@@ -87,5 +87,5 @@ class Hopes:
                 # A row of which there can be any number is never one of the first ones.
                 places = [KEPT] if self.goal.kind == ENDLESS else [KEPT] + list(range(step.most))
             for place in places:
-                listed.append(fate_behind(event, zone, fate, place, asked or rank >= 0 and runs))
+                listed.append(fate_behind(event, zone, fate, place))
         return listed

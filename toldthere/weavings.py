@@ -76,7 +76,7 @@ class Barring:
         def barred(zone, fate, place, behind):
             mine = _mark(event.step, zone, outcome.runs, place != KEPT, fate[0], behind[0])
             for index, step in steps.items():
-                _, took, _, before, left, _ = kept_of(fate[2], index)
+                _, took, before, left, _ = kept_of(fate[2], index)
                 if has_to_wait(self.level, mine, _mark(step, zone, node.ran[index], took, before, left)):
                     return True
             return False

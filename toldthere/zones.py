@@ -83,7 +83,7 @@ def told_as_rows(event, known):
         here, there, past, sure, ahead, unless = fate
         kept = kept_of(past, event.index)
         if kept is not None and kept[1]:
-            there = kept[4]
+            there = kept[3]
         if event.drops:
             past = without_kept(past, event.drops)
         _add(spread, (here, there, past, sure, ahead, unless), origin)
@@ -112,7 +112,7 @@ def spread_fates(event, outcome, zone, known, barred):
         else:
             options = outcome.options[rank]
         for place, true, before, never in options:
-            behind = fate_behind(event, zone, fate, place, asked or rank >= 0 and outcome.runs)
+            behind = fate_behind(event, zone, fate, place)
             ahead, unless = fate[4] | before, fate[5] | never
             if ahead & unless == 0 and (barred is None or not barred(zone, fate, place, behind)):
                 _add(spread, (*behind, sure | true, ahead, unless), origin)
@@ -125,7 +125,7 @@ def _add(spread, fate, origin):
         spread[fate] = origin
 
 
-def fate_behind(event, zone, fate, place, was_found):
+def fate_behind(event, zone, fate, place):
     """The shapes and what is kept of a row that is taken at a place, or kept."""
     step, past, shape = event.step, fate[2], fate[0 if event.at_home else 1]
     left = shape
@@ -133,11 +133,12 @@ def fate_behind(event, zone, fate, place, was_found):
         told = False
         if not event.at_home and past:
             kept = kept_of(past, event.index)
-            told = kept is not None and kept[5]
+            told = kept is not None and kept[4]
         left = step.put(zone.number) if step.puts else step.left(shape, zone.number, place, told)
+    # What is kept: of which statement, whether it took the row, the row ahead of it, as it was left, and the throw.
     if event.at_home and (event.marks or event.keeps and place != KEPT):
         threw = place != KEPT and step.throws_at(place)
-        past = (*past, (event.index, place != KEPT, was_found, shape, left, threw))
+        past = (*past, (event.index, place != KEPT, shape, left, threw))
     if event.drops:
         past = without_kept(past, event.drops)
     return (left, fate[1], past) if event.at_home else (fate[0], left, past)
