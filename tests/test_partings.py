@@ -145,6 +145,19 @@ class PartingTest(PartingCase):
         self.assertEqual(self.check_rows(plan(put, here=here), 0).start.following, 3)
         self.check_rows(plan(put, drop, here=here), None)
 
+    def test_rows_that_are_put_can_be_the_first_ones(self):
+        put, wear = Put(C, ("new", "w")), Change(NEW, [{"f": ("value", "x")}, {"f": ("value", "y")}])
+        self.check_rows(plan(put, Drop(NEW, most=1)), 1)
+        self.check_rows(plan(put, put, Drop(NEW, most=1)), 0)
+        self.check_rows(plan(put, put, Drop(NEW, most=2)), 1)
+        self.check_rows(plan(put, put, put, Drop(NEW, most=2)), 0)
+        self.check_rows(plan(put, put, wear), 0)
+        self.check_rows(plan(put, put, wear.by_number()), None)
+        self.check_rows(plan(put, Put(C, ("old", "w")), Drop(ALL, most=1, by=["s"])), 1)
+        first = Drop(numbered(C, [2, 3]), most=1)
+        self.assertEqual(self.check_rows(plan(put, put, first), 0).start.following, 2)
+        self.check_rows(plan(put, put, Drop(numbered(C, [1, 4]), most=1)), 1)
+
     def test_as_many_rows_as_are_needed(self):
         # Three rows are needed for two ways to take two, one more for each guard.
         rows = {word: has(C, "f", [word]) for word in "xyz"}
