@@ -16,8 +16,8 @@ from toldthere.statements import Change, Drop, Put, Trigger
 from toldthere.tables import Table
 from toldthere.weavings import Dealings, least_level, woven
 
-# The document asks for a second or two; a machine that has other work as well may take longer.
-LONG, SHORT = 4, 0.5
+# The document asks for a second or two, and for a small part of a second.
+LONG, SHORT = 2, 0.5
 
 
 def deciding(script):

@@ -156,37 +156,39 @@ def _with_any(best, letters, zone, top, end):
     return behind
 
 
-def widest(node):
-    """How many unlike numbers there can be at the end, if there is a greatest number; None if no rows come to it."""
-    # From each state to the greatest number of unlike numbers with it.
-    best = {0: 0}
-    for zone, known in zip(node.zones, node.fates):
-        letters = _letters(node, zone, known, False, node.digit)
-        behind = {state: best[state] for state in best} if zone.role == MIDDLE else {}
-        changed = list(best)
-        while changed:
-            following = {}
-            for state in changed:
-                count = best[state]
-                for sure, ahead, unless, digit, _, _, _ in letters:
-                    left = state | sure
-                    more = count + (1 if digit else 0)
-                    # Rows of which there can be any number are none of those that come to the end.
-                    if (state & ahead == ahead and state & unless == 0 and behind.get(left, -1) < more
-                            and not (zone.role == MIDDLE and left == state)):
-                        behind[left] = more
-                        following[left] = True
-            if zone.role != MIDDLE:
-                break
-            best = behind
-            changed = list(following)
-        best = behind
-    return best.get(node.needs)
-
-
 def _put_at(waiting, rows, states):
     """Adds states to those with so many rows."""
     if len(states) > 0:
         while len(waiting) <= rows:
             waiting.append([])
         waiting[rows].extend(states)
+
+
+def widest(node):
+    """How many unlike numbers there can be at the end, if there is a greatest number; None if no rows come to it."""
+    # From each state to the greatest number of unlike numbers with it.
+    best = {0: 0}
+    for zone, known in zip(node.zones, node.fates):
+        letters = _letters(node, zone, known, False, node.digit)
+        if zone.role != MIDDLE:
+            best = _most_unlike_behind(best, list(best), letters, False)
+            continue
+        states = list(best)
+        while states:
+            behind = _most_unlike_behind(best, states, letters, True)
+            states = [state for state in behind if behind[state] > best.get(state, -1)]
+            for state in states:
+                best[state] = behind[state]
+    return best.get(node.needs)
+
+
+def _most_unlike_behind(best, states, letters, many):
+    """From each state behind one more row, with one of these states ahead of it, to the greatest number."""
+    behind = {}
+    for state in states:
+        for sure, ahead, unless, digit, _, _, _ in letters:
+            left = state | sure
+            # Rows of which there can be any number are none of those that come to the end.
+            if state & ahead == ahead and state & unless == 0 and not (many and left == state):
+                behind[left] = max(behind.get(left, 0), int(best[state] + (1 if digit else 0)))
+    return behind
