@@ -249,6 +249,13 @@ class PartingTest(PartingCase):
         self.assertEqual((made.start, made.here, made.there, made.halted, made.home, made.copy),
                          (table, table, table, None, [([], None, {})], [None]))
         self.assertEqual((named.halted, named.home), (1, []))
+        home, copy = [([1], "m", {1: "t"})], (None, [(2, 1), None, {}])
+        made = Parting(table, table, table, None, home, copy)
+        home[0][0].append(2)
+        home[0][2].clear()
+        home.clear()
+        copy[1][2][1] = "t"
+        self.assertEqual((made.home, made.copy), ([([1], "m", {1: "t"})], [None, ([2, 1], None, {})]))
 
     def test_scripts_of_no_statements(self):
         empty = Script(C, [])

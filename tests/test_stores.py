@@ -2,7 +2,7 @@
 
 import unittest
 
-from tests.samples import LONG, any_objects
+from tests.samples import LONG, any_objects, check_equal
 from toldthere.columns import Columns
 from toldthere.errors import (BadLevel, BadOrder, BadStatement, BadTrigger, BadWord, Barred, Busy, Closed, Halted,
                               NoEntry, NoWords, Refused)
@@ -387,6 +387,10 @@ class LogTest(StoreCase):
             (8, statements[8], None, None, {}, None, None)])
         self.assertEqual(list(told[5][5]), [8, 7])
         self.assertEqual([entry(home[place]) for place in range(len(home))], told)
+        for place, one in enumerate(home.entries()):
+            for other_place in range(len(home)):
+                check_equal(self, one, home[other_place], place == other_place)
+            check_equal(self, one, told[place], False)
         for name in ("dealing", "statement", "number", "moment", "throws", "results", "following"):
             self.assertIn(name, vars(home[0]))
 

@@ -249,6 +249,11 @@ class WovenTest(unittest.TestCase):
         made = Woven(parting=parting, weaving=((0, 0), (0, None)))
         self.assertEqual(made.weaving, ((0, 0), (0, None)))
         self.assertIs(made.parting, parting)
+        weaving = [[0, 0], (0, None)]
+        made = Woven(weaving, parting)
+        weaving[0][0] = 1
+        weaving.clear()
+        self.assertEqual(made.weaving, ((0, 0), (0, None)))
 
 
 class HoldsTest(unittest.TestCase):

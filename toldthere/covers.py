@@ -53,20 +53,31 @@ def _fewest(masks, rest, single):
 
 def _most_unlike(node, hopes, sought):
     """At least as many numbers as can be unlike at the end, as far as single rows can tell; sought if no fewer."""
-    count = 0
-    taken = 0
+    calm = hopes.calm
+    # Each number that is not free needs a row that is taken as one of the first: so far, or later on.
+    free, others, taken, later = 0, 0, 0, 0
     for zone, known in zip(node.zones, node.fates):
         hoping = [fate for fate in known if hopes.of(node.place, zone, fate)]
-        if zone.role != MIDDLE:
-            count += 1 if hoping else 0
-            continue
-        for fate in hoping:
-            if fate[3] & node.single == 0:
-                # It can be taken later on, or there may be any number of such rows.
+        untaken = [fate for fate in hoping if fate[3] & node.single == 0]
+        if any([calm.of(node.place, zone, fate) for fate in untaken]):
+            if zone.role == MIDDLE:
+                # There may be any number of such rows.
                 return sought
-            taken = taken | fate[3] & node.single
-    while taken:
-        taken = taken & (taken - 1)
+            free += 1
+        elif hoping:
+            others += sought if zone.role == MIDDLE else 1
+            if untaken:
+                later = hopes.takes_behind(node.place)
+            for fate in hoping:
+                taken = taken | fate[3] & node.single
+    return free + min(int(others), _count(taken) + later)
+
+
+def _count(digits):
+    """How many digits there are."""
+    count = 0
+    while digits:
+        digits = digits & (digits - 1)
         count += 1
     return count
 

@@ -28,9 +28,12 @@ class Goal:
 class Hopes:
     """Tells of fates in a course whether they can lead to a goal."""
 
-    def __init__(self, course, goal):
+    def __init__(self, course, goal, is_calm=False):
         self.course = course
         self.goal = goal
+        # Whether rows are never one of the first ones from here on; and the hopes for these rows.
+        self._is_calm = is_calm or goal.kind == ENDLESS
+        self.calm = self if self._is_calm else Hopes(course, goal, True)
         self._known = {}
         # Up to here the copy can halt, as far as one row can tell.
         self._open = 0
@@ -45,6 +48,10 @@ class Hopes:
         if key not in self._known:
             self._known[key] = self._of(place, zone, fate)
         return self._known[key]
+
+    def takes_behind(self, place):
+        """How many rows can be taken as one of the first ones by the events from a place on."""
+        return sum([event.step.most or 0 for event in self.course.events[place:] if not event.as_rows])
 
     def _can_halt(self, event):
         return (not event.at_home and not event.as_rows and event.step.must and self.goal.lets_halt(event.index))
@@ -85,7 +92,7 @@ class Hopes:
                 places = (0,)
             else:
                 # A row of which there can be any number is never one of the first ones.
-                places = [KEPT] if self.goal.kind == ENDLESS else [KEPT] + list(range(step.most))
+                places = [KEPT] if self._is_calm else [KEPT] + list(range(step.most))
             for place in places:
                 listed.append(fate_behind(event, zone, fate, place))
         return listed

@@ -41,16 +41,22 @@ class Mender:
             else:
                 statements[index] = statements[index].told(word)
         proofs = Proofs(self._kit, statements, variants, self._known)
-        course = proofs.stretch(0, len(statements))
-        for place, found in enumerate(self._tables):
-            if _parts_by(course, found):
-                # The tables that tell most lie ahead.
-                self._tables = [found, *self._tables[:place], *self._tables[place + 1:]]
-                return False
+        place = self._place_of_failure(proofs.stretch(0, len(statements)))
+        if place < len(self._tables):
+            # The tables that tell most lie ahead.
+            self._tables = [self._tables[place], *self._tables[:place], *self._tables[place + 1:]]
+            return False
         found = proofs.find(0, len(statements), Goal(PART))
         if found is not None:
             self._tables = [found, *self._tables]
         return found is None
+
+    def _place_of_failure(self, course):
+        """The place of the first table that is kept by which a course can part; behind them all, if there is none."""
+        place = 0
+        while place < len(self._tables) and not _parts_by(course, self._tables[place]):
+            place += 1
+        return place
 
 
 def _pairs(plan):

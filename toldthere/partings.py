@@ -17,8 +17,8 @@ class Parting:
         self.here = here
         self.there = there
         self.halted = halted
-        self.home = home
-        self.copy = copy
+        self.home = _copied_entries(home)
+        self.copy = _copied_entries(copy)
 
 
 def steady(plan):
@@ -68,6 +68,16 @@ def parting_of(found):
         return None
     start, home, copy, halted = told_course(found)
     return Parting(start, home.present(), copy.present(), halted, home.written, copy.written)
+
+
+def _copied_entries(entries):
+    """A new list of entries, each with a list and a dict of its own."""
+    return [None if entry is None else _copied_entry(entry) for entry in entries]
+
+
+def _copied_entry(entry):
+    numbers, moment, throws = entry
+    return list(numbers), moment, dict(throws)
 
 
 def _check_index(plan, index):

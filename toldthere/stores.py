@@ -179,6 +179,12 @@ class Entry:
         self.results = dict(trial.results) if rows else None
         self.following = following if rows else None
 
+    def __eq__(self, other):
+        return isinstance(other, Entry) and self._parts() == other._parts()
+
+    def _parts(self):
+        return (self.dealing, self.statement, self.number, self.moment, self.throws, self.results, self.following)
+
 
 class Copy:
     """A store that runs the entries of a log."""

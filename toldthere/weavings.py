@@ -57,7 +57,7 @@ class Woven:
     """A weaving, and a run of it behind which home and copy are not alike."""
 
     def __init__(self, weaving, parting):
-        self.weaving = weaving
+        self.weaving = tuple([tuple(event) for event in weaving])
         self.parting = parting
 
 
