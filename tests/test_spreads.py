@@ -34,6 +34,9 @@ class SpreadTest(unittest.TestCase):
         self.spreads(0, Change(NEW, THROW, how="values"))
         self.spreads(0, Change(NEW, MOMENT, how="rows"), Drop(NEW, most=1, by=["number"]))
         self.spreads(0, Change(NEW, MOMENT), Drop(NEW))
+        # Where several rows were found, all are dropped; where just one was, it is the same.
+        self.spreads(0, Drop(NEW, most=1), Drop(ALL, when=("some", NEW)))
+        self.spreads(0, Change(NEW, [AGE, {}]), Change(ALL, AGE, when=("some", NEW)))
 
     def test_first_rows(self):
         self.spreads(2, Change(NEW, [AGE]))
