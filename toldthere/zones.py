@@ -54,13 +54,12 @@ def fates_of(shapes):
 
 def found_ranks(event, zones, fates):
     """The ascending list of the ranks of the rows that the step of an event can find."""
-    facts = event.step.facts
-    side = 0 if event.at_home else 1
+    step, side = event.step, 0 if event.at_home else 1
     ranks = {}
     for zone, known in zip(zones, fates):
         for fate in known:
-            ranks[facts(fate[side], zone.number)[1]] = True
-    return [rank for rank in range(event.step.ranks) if rank in ranks]
+            ranks[step.facts(fate[side], zone.number)[1]] = True
+    return [rank for rank in range(step.ranks) if rank in ranks]
 
 
 def kept_of(past, index):
