@@ -94,11 +94,11 @@ def spread_fates(event, outcome, zone, known, barred):
 
     barred tells whether a row would have to wait for an open dealing; None if no dealings are woven.
     """
-    step, facts, side = event.step, event.step.facts, 0 if event.at_home else 1
+    step, side = event.step, 0 if event.at_home else 1
     here_put = step.puts and zone.role == PLACE and zone.offset == event.offset and outcome.runs
     spread = {}
     for fate, origin in known.items():
-        asked, rank = facts(fate[side], zone.number)
+        asked, rank = step.facts(fate[side], zone.number)
         sure = fate[3]
         if asked and outcome.some is not None:
             if not outcome.some:
